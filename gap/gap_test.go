@@ -357,7 +357,7 @@ func TestHolds(t *testing.T) {
 	}
 }
 
-// Holds by its definition, word by word.
+// holds returns what P10.4 says of Holds, word by word.
 func holds(outline, s api.Shape, need int) bool {
 	g, ok := gap.Border(outline, s)
 	if !ok || g.Meet || root.CmpInt(g.Dist, need) < 0 || !shape.Inside(outline, s.Edges[0].A) {
